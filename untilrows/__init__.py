@@ -1,0 +1,1 @@
+"""Untilrows: judging hand-written changes of rows with "from" and "until"."""
