@@ -24,6 +24,17 @@ def until_of(stop, ends):
     return stop - 1
 
 
+def last_of(until, ends):
+    """Return the last day of a row with this until, None for an open row."""
+    return until_of(stop_of(until, ends), Ends.LAST_DAY)
+
+
+def bears(row, day, ends):
+    """Return True if the row, told as a tuple, bears the day."""
+    stop = stop_of(row[1], ends)
+    return row[0] <= day and (stop is None or day < stop)
+
+
 def bears_no_day(first, until, ends):
     """Return True if a row of these fields is an empty row."""
     stop = stop_of(until, ends)
@@ -79,8 +90,7 @@ class Row:
         return self.first - other.first
 
     def __contains__(self, x):
-        stop = self.stop
-        return self.first <= x and (stop is None or x < stop)
+        return bears((self.first, self._until), x, self.ends)
 
     def __eq__(self, other):
         return (isinstance(other, Row) and self.first == other.first and self._until == other._until

@@ -3,6 +3,14 @@
 from untilrows.errors import EmptyStretch, Unordered
 
 
+def stretch_of(at):
+    """Return the first and the last day that an index means; the last one is None without end."""
+    first, last = at if isinstance(at, tuple) else (at, at)
+    if last is not None and last < first:
+        raise EmptyStretch(first, last)
+    return first, last
+
+
 def place_of(runs, day):
     """Return the index of the first run that does not end before the day."""
     low, high = 0, len(runs)
@@ -48,12 +56,7 @@ class Table:
         return None
 
     def __setitem__(self, at, worth):
-        if isinstance(at, tuple):
-            first, last = at
-        else:
-            first, last = at, at
-        if last is not None and last < first:
-            raise EmptyStretch(first, last)
+        first, last = stretch_of(at)
         self._give(first, last, worth)
 
     def _give(self, first, last, value):
