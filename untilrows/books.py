@@ -95,11 +95,14 @@ class Book:
 
     def __setitem__(self, at, worth):
         first, last = stretch_of(at)
-        rows = [left for row in self._rows for left in without_stretch(row, first, last, self.ends)]
+        # Of the rows that begin ahead of the stretch only the latest can reach into it.
+        low = max(number_begun(self._rows, first - 1) - 1, 0)
+        high = len(self._rows) if last is None else number_begun(self._rows, last)
+        left = [part for row in self._rows[low:high] for part in without_stretch(row, first, last, self.ends)]
         if worth is not None:
             until = until_of(stop_of(last, Ends.LAST_DAY), self.ends)
-            rows.append((first, until, worth))
-        self._rows = sorted(rows, key=first_day)
+            left.append((first, until, worth))
+        self._rows[low:high] = sorted(left, key=first_day)
 
     def _row_on(self, day):
         begun = number_begun(self._rows, day)
