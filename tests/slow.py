@@ -94,3 +94,25 @@ def faulty(text):
             yield "\n".join([*lines[:at], " ".join(other), *lines[at + 1:]])
         if len(lines) > 1:
             yield "\n".join([*lines[:at], *lines[at + 1:]])
+
+
+def any_handler(mixed, number, per, two_days, copies, most=40):
+    """Return a handler that cannot fail, with so many statements and so many tests in each of them."""
+    bases = ["d", "e", "first", "until"] if two_days else ["d", "first", "until"]
+
+    def term(some_bases):
+        shift = mixed.randint(-most, most)
+        base = mixed.choice(some_bases)
+        return base if shift == 0 else f"{base} {'+' if shift > 0 else '-'} {abs(shift)}"
+
+    lines = []
+    for _ in range(number):
+        tests = [f"{mixed.choice(['first', 'until'])} {mixed.choice(['<', '<=', '>', '>='])} {term(bases)}"
+                 for _ in range(per)]
+        kind = mixed.choice(["set", "drop", "copy"] if copies > 0 else ["set", "drop"])
+        copies -= kind == "copy"
+        setting = "" if kind == "drop" else mixed.choice(
+            [f"first = {term(bases[:-1])} ", f"until = {term(bases)} ",
+             f"first = {term(bases[:-1])} and until = {term(bases)} "])
+        lines.append(f"{kind} {setting}where {' and '.join(tests)}")
+    return "\n".join(lines)

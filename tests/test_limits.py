@@ -8,9 +8,11 @@ import unittest
 import slow
 from untilrows.faults import enough
 from untilrows.handlers import Handler, turned
+from untilrows.mends import mends
 from untilrows.operations import Operation, operation
 from untilrows.pieces import pieces
 from untilrows.verdicts import alike, judge, widest
+from untilrows.weaves import holds, judge_weave
 
 LIMIT = 48
 # A question takes less than a second where this was written.
@@ -35,7 +37,7 @@ def parted_in_two(line, test, other):
     return [f"{line} and {test}{guard}", f"{line} and {other}{guard}"]
 
 
-def padded(text, two_days, limit, mixed):
+def padded(text, two_days, limit, mixed, most_heads=2):
     """Return a handler that does the same with more tests and, if it has too few, more head lines."""
     days = ["d", "e"] if two_days else ["d"]
     for _ in range(60):
@@ -45,7 +47,8 @@ def padded(text, two_days, limit, mixed):
         place = mixed.randrange(len(rest))
         sign = mixed.choice(list(OPPOSITE))
         term = f"{mixed.choice(days)} {mixed.choice('+-')} {mixed.randint(1, 90)}"
-        if len(heads) < 2 and mixed.random() < 0.5 and " if " not in rest[place] and " unless " not in rest[place]:
+        is_guarded = " if " in rest[place] or " unless " in rest[place]
+        if len(heads) < most_heads and mixed.random() < 0.5 and not is_guarded:
             name = "ab" if len(heads) == 0 else "cd"
             head = f"flag {name} = {mixed.choice(['first', 'until'])} {sign} {term}"
             found = [*heads, head, *rest[:place], f"{rest[place]} if {name}", f"{rest[place]} unless {name}",
@@ -63,26 +66,6 @@ def padded(text, two_days, limit, mixed):
         if number_of_tests(told) <= limit and max(line.count(" and ") for line in found) < 3:
             text = told
     return text
-
-
-def any_handler(mixed, number, per, two_days, copies):
-    """Return a handler that cannot fail, with so many statements and so many tests in each of them."""
-    bases = ["d", "e", "first", "until"] if two_days else ["d", "first", "until"]
-
-    def term(some):
-        return f"{mixed.choice(some)} {mixed.choice('+-')} {mixed.randint(1, 40)}"
-
-    lines = []
-    for _ in range(number):
-        tests = [f"{mixed.choice(['first', 'until'])} {mixed.choice(['<', '<=', '>', '>='])} {term(bases)}"
-                 for _ in range(per)]
-        kind = mixed.choice(["set", "drop", "copy"] if copies > 0 else ["set", "drop"])
-        copies -= kind == "copy"
-        setting = "" if kind == "drop" else mixed.choice(
-            [f"first = {term(bases[:-1])} ", f"until = {term(bases)} ",
-             f"first = {term(bases[:-1])} and until = {term(bases)} "])
-        lines.append(f"{kind} {setting}where {' and '.join(tests)}")
-    return "\n".join(lines)
 
 
 class LimitCase(unittest.TestCase):
@@ -116,7 +99,7 @@ class JudgeTest(LimitCase):
         for word, shape, per in itertools.product(Operation.WORDS, slow.SHAPES, [1, 2, 3]):
             work = operation(word)
             number = {"apart": 1, "solid": 2, "lasting": 2}[shape] * (1 + work.named)
-            text = any_handler(mixed, max(1, min(8, LIMIT // number // per)), per, work.two_days, 3)
+            text = slow.any_handler(mixed, max(1, min(8, LIMIT // number // per)), per, work.two_days, 3)
             self.began = time.perf_counter()
             judge(Handler.read(text), work, shape=shape)
             self.in_time(text, word, shape)
@@ -141,7 +124,7 @@ class AlikeTest(LimitCase):
         for by, two_days, (number, per, shape) in itertools.product(
                 ["days", "rows"], [False, True], [(8, 3, "apart"), (8, 3, "solid"), (4, 3, "lasting"),
                                                   (8, 1, "lasting"), (6, 2, "lasting")]):
-            text = any_handler(mixed, number, per, two_days, 4)
+            text = slow.any_handler(mixed, number, per, two_days, 4)
             self.began = time.perf_counter()
             self.assertTrue(alike(Handler.read(text), Handler.read(text), shape=shape, by=by, two_days=two_days))
             self.in_time(text, shape, by)
@@ -163,7 +146,7 @@ class PiecesTest(LimitCase):
     def test_six_rows_and_eight_tests(self):
         mixed = random.Random(5)
         for shape, two_days, (number, per) in itertools.product(slow.SHAPES, [False, True], [(8, 1), (4, 2)]):
-            text = any_handler(mixed, number, per, two_days, 1)
+            text = slow.any_handler(mixed, number, per, two_days, 1)
             self.began = time.perf_counter()
             self.assertTrue(pieces(Handler.read(text), 6, shape=shape, open_last=True, two_days=two_days))
             self.in_time(text, shape)
@@ -176,6 +159,55 @@ class PiecesTest(LimitCase):
         for shape in slow.SHAPES:
             self.assertTrue(pieces(Handler.read(text), 6, shape=shape, open_last=True, two_days=True))
             self.in_time(text, shape)
+
+
+class WeaveTest(LimitCase):
+    def test_twenty_four_tests(self):
+        mixed = random.Random(6)
+        for number, per in itertools.product([(8, 8), (4, 4), (2, 6)], [1, 2, 3]):
+            if sum(number) * per > LIMIT // 2:
+                continue
+            for _ in range(4):
+                one, other = [Handler.read(slow.any_handler(mixed, lines, per, False, 2)) for lines in number]
+                turns = "".join(mixed.sample("1" * number[0] + "2" * number[1], sum(number)))
+                self.began = time.perf_counter()
+                judge_weave(one, other, turns)
+                self.in_time(str(one), str(other), turns)
+
+    def test_right_handlers_in_turn(self):
+        mixed = random.Random(7)
+        for one, other in itertools.product(["set", "end", "take"], repeat=2):
+            pair = [Handler.read(padded(slow.RIGHT[word], False, LIMIT // 4, mixed, 0)) for word in (one, other)]
+            turns = "".join(mixed.sample("1" * len(pair[0].lines) + "2" * len(pair[1].lines),
+                                         len(pair[0].lines) + len(pair[1].lines)))
+            self.began = time.perf_counter()
+            judge_weave(*pair, turns)
+            self.in_time(one, other, turns)
+
+    def test_holds(self):
+        mixed = random.Random(8)
+        for _ in range(12):
+            one, other = [Handler.read(slow.any_handler(mixed, 3, 3, False, mixed.randint(0, 2))) for _ in "12"]
+            self.began = time.perf_counter()
+            self.assertTrue(holds(one, other))
+            self.in_time(str(one), str(other))
+
+
+class MendsTest(LimitCase):
+    def test_five_changes(self):
+        mixed = random.Random(9)
+        for word, shape in itertools.product(Operation.WORDS, slow.SHAPES):
+            work = operation(word)
+            number = 1 + work.named + slow.RIGHT[word].count("read ")
+            rows = {"apart": number, "solid": 2 * number - 1, "lasting": 2 * number}[shape]
+            text = padded(slow.RIGHT[word], work.two_days, LIMIT // rows, mixed, 0)
+            lines = text.split("\n")
+            # Every line is wrong at first, so that all sets of changes are looked at.
+            pool = [(number, line) for number, line in enumerate(lines, start=1)][-5:]
+            wrong = "\n".join([*lines[:-len(pool)], *["drop where first = d" for _ in pool]])
+            self.began = time.perf_counter()
+            self.assertLessEqual(len(mends(Handler.read(wrong), work, *pool, shape=shape)), 32)
+            self.in_time(text, word, shape)
 
 
 if __name__ == "__main__":

@@ -94,7 +94,7 @@ def read_alike(one, other, *, shape="apart"):
         raise OtherEnds(other.ends)
     for count in range(MOST_ROWS[shape] + 1):
         for open_last in (False, True):
-            if open_last and count == 0 or shape == Shape.LASTING and not open_last:
+            if (open_last and count == 0) or (shape == Shape.LASTING and not open_last):
                 continue
             book, d = unlike_scene(one, other, shape, count, open_last)
             if book is not None:
