@@ -10,7 +10,7 @@ MOST_ROWS = 6
 
 
 class Piece:
-    """A part of the scenes of a handler, in which it does the same; it holds the scenes of all bounds."""
+    """The scenes that keep all bounds, and what the handler leaves in each of them, or where it fails."""
 
     def __init__(self, bounds, rows, fails):
         self.bounds = bounds
