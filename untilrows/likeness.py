@@ -31,17 +31,19 @@ def same_rows(zone, one, other):
     return equal, others + more
 
 
+def with_weighed(zone, total, row, weighed):
+    """Return tuples (zone, total), where the weight of the weighed row is added if it is equal to the row."""
+    other, weight = weighed
+    equal, unequal = same_rows(zone, row, other)
+    without = [(part, total) for part in unequal]
+    return without if equal is None else [*without, (equal, total + weight)]
+
+
 def counted(zone, row, weighted):
     """Return tuples (zone, sum of the weights of the rows that are equal to the row)."""
     states = [(zone, 0)]
-    for other, weight in weighted:
-        found = []
-        for part, total in states:
-            equal, unequal = same_rows(part, row, other)
-            found.extend([(rest, total) for rest in unequal])
-            if equal is not None:
-                found.append((equal, total + weight))
-        states = found
+    for weighed in weighted:
+        states = [state for part, total in states for state in with_weighed(part, total, row, weighed)]
     return states
 
 

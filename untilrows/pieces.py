@@ -59,13 +59,9 @@ def picked(head, zone, rows, known):
     found = []
     others = [zone]
     for row in (rows[::-1] if head.pick == "greatest" else rows):
-        left = []
-        for part in others:
-            holds, fails = split(part, head.checks, row, known)
-            left.extend(fails)
-            if holds is not None:
-                found.append((holds, row))
-        others = left
+        splits = [split(part, head.checks, row, known) for part in others]
+        found.extend([(holds, row) for holds, _ in splits if holds is not None])
+        others = [part for _, fails in splits for part in fails]
     return found + [(part, None) for part in others]
 
 

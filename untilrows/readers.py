@@ -53,24 +53,31 @@ class Reader:
         return found[-1][2] if self.pick == "latest" else found[0][2]
 
 
+def looked_at(reader, state, row, known):
+    """Return the states in which the reader is done when it has looked at the row, and those in which it goes on.
+
+    A state is a tuple (zone, label of the row that is found so far, or None, or SEVERAL).
+    """
+    zone, label = state
+    holds, fails = split(zone, reader.checks, row, known)
+    others = [(part, label) for part in fails]
+    if holds is None:
+        return [], others
+    if label is not None:
+        return [(holds, SEVERAL)], others
+    if reader.pick == "only":
+        return [], [*others, (holds, row[2])]
+    return [(holds, row[2])], others
+
+
 def found_by(reader, zone, rows, known):
     """Return tuples (zone, label of the row whose value the reader gives); the label may be None or SEVERAL."""
     found = []
     states = [(zone, None)]
     for row in (rows[::-1] if reader.pick == "latest" else rows):
-        left = []
-        for part, label in states:
-            holds, fails = split(part, reader.checks, row, known)
-            left.extend([(other, label) for other in fails])
-            if holds is None:
-                continue
-            if label is not None:
-                found.append((holds, SEVERAL))
-            elif reader.pick == "only":
-                left.append((holds, row[2]))
-            else:
-                found.append((holds, row[2]))
-        states = left
+        looks = [looked_at(reader, state, row, known) for state in states]
+        found.extend([state for done, _ in looks for state in done])
+        states = [state for _, others in looks for state in others]
     return found + states
 
 

@@ -33,17 +33,19 @@ def borne(zone, day, begin, end):
     return inside, others + behind
 
 
+def with_span(zone, total, day, span):
+    """Return tuples (zone, total), where the weight of the span is added if it has the day."""
+    begin, end, weight = span
+    inside, others = borne(zone, day, begin, end)
+    without = [(other, total) for other in others]
+    return without if inside is None else [*without, (inside, total + weight)]
+
+
 def tallied(zone, day, spans):
     """Return tuples (zone, sum of the weights of the spans that have the day)."""
     states = [(zone, 0)]
-    for begin, end, weight in spans:
-        found = []
-        for part, total in states:
-            inside, others = borne(part, day, begin, end)
-            found.extend([(other, total) for other in others])
-            if inside is not None:
-                found.append((inside, total + weight))
-        states = found
+    for span in spans:
+        states = [state for part, total in states for state in with_span(part, total, day, span)]
     return states
 
 
